@@ -1,0 +1,1 @@
+"""Leafframe: the memory of many tasks on few frames."""
