@@ -48,6 +48,12 @@ def digits(number, bases):
     return tuple(told)
 
 
+def answers(shape):
+    """One answer of each method."""
+    return [shape.pages(), shape.size(), shape.cut(45), shape.joined(shape.cut(83)), shape.page_of(45),
+            shape.place_of(45), shape.address_of(9, 1), shape.stretch(60, 4)]
+
+
 class Making(Case):
     def test_pages_and_sizes(self):
         for shape, pages, size in all_shapes():
@@ -80,10 +86,6 @@ class Making(Case):
             self.refused(NoShape, Shape, [3, 4, 5], low)
 
     def test_widths_that_are_changed_behind_the_making_change_no_answer(self):
-        def answers(shape):
-            return [shape.pages(), shape.size(), shape.cut(45), shape.joined((1, 2, 3, 1)), shape.page_of(45),
-                    shape.place_of(45), shape.address_of(9, 1), shape.stretch(60, 4)]
-
         widths = [1, 3, 2]
         shape = Shape(widths, 1)
         ahead = answers(shape)
@@ -291,19 +293,14 @@ class Stretches(Case):
 class Refusals(Case):
     def test_what_is_refused_changes_nothing(self):
         shape = Shape([3, 4], 2)
-
-        def answers():
-            return [shape.pages(), shape.size(), shape.cut(45), shape.joined((1, 2, 3)), shape.page_of(45),
-                    shape.place_of(45), shape.address_of(9, 1), shape.stretch(60, 4)]
-
-        ahead = answers()
+        ahead = answers(shape)
         self.refused(NoAddress, shape.cut, 512)
         self.refused(NoAddress, shape.joined, (1, 2, 4))
         self.refused(NoAddress, shape.page_of, -1)
         self.refused(NoAddress, shape.place_of, 512)
         self.refused(NoAddress, shape.address_of, 128, 0)
         self.refused(NoStretch, shape.stretch, 127, 2)
-        self.assertEqual(answers(), ahead)
+        self.assertEqual(answers(shape), ahead)
 
 
 if __name__ == "__main__":
