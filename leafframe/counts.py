@@ -28,6 +28,12 @@ class Counts:
         self.kept[number] = self.kept[number] - 1
         return self.kept[number]
 
+    def freed(self, number):
+        self.check_taken(number)
+        count = self.kept[number]
+        self.kept[number] = 0
+        return count
+
     def of(self, number):
         # Python would take a number below 0 from the list's end.
         if not 0 <= number < len(self.kept):
