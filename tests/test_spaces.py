@@ -8,9 +8,8 @@ from leafframe.leaves import Fresh, Held, Named, Out
 from leafframe.shapes import Shape
 from leafframe.spaces import Space
 from leafframe.trees import Tree
-from tests.helper import FAR_ABOVE, FAR_BELOW, Case, told_rows
+from tests.helper import FAR_ABOVE, FAR_BELOW, NO_RIGHTS, Case, bad_stretches, told_rows
 
-NO_RIGHTS = (-1, 4, 5, -4) + FAR_ABOVE + FAR_BELOW
 TASK = 6
 
 
@@ -19,14 +18,6 @@ def space_with(leaves, shape=None):
     for page, leaf in leaves.items():
         space.put(page, leaf)
     return space
-
-
-def bad_stretches(pages):
-    """Firsts and lengths that make no stretch of so many pages."""
-    told = [(first, many) for first in (0, pages - 1) for many in (0, -1, 65, 66) + FAR_ABOVE + FAR_BELOW]
-    told += [(first, 1) for first in (-1, pages, pages + 1, -pages) + FAR_BELOW]
-    told += [(far + pages, 2) for far in FAR_ABOVE]
-    return told + [(pages - 1, 2), (pages - 63, 64), (-1, 3)]
 
 
 class SpaceCase(Case):
