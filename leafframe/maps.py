@@ -12,9 +12,8 @@ def forget_pages(memory, task, first, many):
 
 def map_pages(memory, task, first, many, rights):
     space = space_of(memory, task)
-    # A stretch may be refused for its length, so it goes ahead of making so many leaves.
+    # What is no stretch is refused ahead of making so many leaves, and ahead of their rights.
     pages = memory.shape.stretch(first, many)
-    check_rights(rights)
     space.lay(first, [Fresh(rights) for page in pages])
 
 

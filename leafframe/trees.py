@@ -12,7 +12,7 @@ def one_level_down(nodes, width):
 
 def prune(path, indexes):
     """Takes empty tables out of the tables above them, from the lowest up."""
-    for level in reversed(range(1, len(path))):
+    for level in range(len(path) - 1, 0, -1):
         if len(path[level]) == 0:
             path[level - 1].pop(indexes[level - 1])
 

@@ -7,6 +7,7 @@ from leafframe.errors import Fault, LeafError, Taken
 from leafframe.leaves import Fresh, Held, Named, Out
 from leafframe.maps import change_rights, map_pages, share_pages, unmap_pages
 from leafframe.memories import begin_task, live_tasks, room_left, walks_of
+from leafframe.tasks import end_task, fork_task
 
 # Far beyond every bound; the last ones have more digits than Python writes out.
 FAR_ABOVE = (1 << 64, 10 ** 30, 1 << 20000)
@@ -26,7 +27,7 @@ NO_NAMES = (
 
 DEEDS = {
     "begin": begin_task, "map": map_pages, "unmap": unmap_pages, "rights": change_rights, "share": share_pages,
-    "read": read_word, "write": write_word,
+    "read": read_word, "write": write_word, "fork": fork_task, "end": end_task,
 }
 
 
@@ -102,6 +103,25 @@ class FlatMemory:
         task = min(set(range(len(self.tasks) + 1)) - set(self.tasks))
         self.tasks[task] = {}
         return task
+
+    def fork(self, task):
+        pages = {number: self.copied(page) for number, page in self.tasks[task].items()}
+        child = self.begin()
+        self.tasks[child] = pages
+        return child
+
+    def copied(self, page):
+        if len(page) == 3:
+            self.shares[page[2]]["uses"] += 1
+            return list(page)
+        rights, (words, content) = page
+        if content is not None:
+            content[0] += 1
+        return [rights, [list(words), content]]
+
+    def end(self, task):
+        for page in self.tasks.pop(task).values():
+            self.let_go(page)
 
     def stretch(self, first, many):
         return range(first, first + many) if 1 <= many <= 64 and 0 <= first <= self.page_count - many else None

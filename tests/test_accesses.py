@@ -234,6 +234,20 @@ class Walks(Case):
         write_word(memory, task, page * 4 + 2, 7)
         self.assertEqual(page_read(memory, task, page)[1:3], [6, 7])
 
+    def test_a_read_is_noted_too(self):
+        for near in (1, 64):
+            memory = memory_of(1, 1, near, pages=2, rights=3)
+            share_pages(memory, 0, "a", 64, 1, 1)
+            share_pages(memory, 0, "a", 65, 1, 2)
+            write_word(memory, 0, 260, 5)
+            write_word(memory, 0, 0, 6)
+            for address, word in ((256, 5), (0, 6), (256, 5)):
+                walks = walks_of(memory)
+                self.assertEqual(read_word(memory, 0, address), word)
+                self.assertEqual(walks_of(memory), walks + 1)
+                self.assertEqual([read_word(memory, 0, address) for turn in range(3)], [word] * 3)
+                self.assertEqual(walks_of(memory), walks + 1)
+
     def test_a_refused_full_write_does_not_make_it_forget(self):
         memory = memory_of(1, 0, 1, pages=2)
         write_word(memory, 0, 0, 5)

@@ -34,6 +34,16 @@ WORDS = re.compile(
     r"\b(type|typing|typing_extensions|enum|Enum|IntEnum|StrEnum|Flag|IntFlag|Generic|Protocol|ABC|ABCMeta|namedtuple"
     r"|NamedTuple|TypedDict|TYPE_CHECKING|abstractmethod)\b|dataclass|overload|contextmanager"
 )
+WALKED = ("zip", "enumerate", "reversed", "range")
+WALKED_METHODS = ("items", "keys", "values")
+WALKERS = ("list", "tuple", "dict", "sorted", "sum", "any", "all", "enumerate", "zip")
+KEYWORDS = {"sorted": ("key", "reverse"), "min": ("key", "default"), "max": ("key", "default"), "sum": ("start",),
+            "enumerate": ("start",), "zip": ("strict",)}
+TAKEN_AS_YOU_LIKE = ("KeyError", "ZeroDivisionError", "StopIteration")
+# What an object's methods, and its values, may be called although Python's own values have such a name.
+METHODS_TOO = METHODS + ["add", "discard"]
+VALUES_TOO = "count index title find get join lower upper split strip copy add".split()
+NOT_FREE = set().union(*[dir(kind) for kind in (str, int, list, tuple, dict, set, frozenset, bytes)])
 
 
 def bound_names(tree):
@@ -104,12 +114,90 @@ def faults_of_node(node, own_methods):
     return []
 
 
-def faults(text, own_methods=()):
+def called(node):
+    """The name of what is called by itself, like a builtin; None for all else."""
+    return node.func.id if isinstance(node, ast.Call) and isinstance(node.func, ast.Name) else None
+
+
+def walked_at_once(node, above):
+    if isinstance(above, (ast.For, ast.comprehension)):
+        return above.iter is node
+    if called(above) in WALKERS:
+        return above.args[0] is node
+    if called(above) in ("min", "max"):
+        return above.args == [node]
+    joined = isinstance(above, ast.Call) and isinstance(above.func, ast.Attribute) and above.func.attr == "join"
+    return joined and isinstance(above.func.value, ast.Constant)
+
+
+def set_is_asked_at_once(node, parents):
+    above = parents[node]
+    if isinstance(above, ast.Compare):
+        return True
+    while isinstance(above, ast.BinOp):
+        above = parents[above]
+    return called(above) in ("sorted", "len") and not above.keywords
+
+
+def class_stands_well(node, parents):
+    above = parents[node]
+    if isinstance(above, ast.Tuple):
+        above = parents[above]
+    called_or_asked = isinstance(above, ast.Call) and (above.func is node or called(above) == "isinstance")
+    base_init = isinstance(above, ast.Attribute) and above.attr == "__init__"
+    return called_or_asked or base_init or isinstance(above, (ast.ClassDef, ast.ExceptHandler))
+
+
+def faults_of_place(node, parents, classes):
+    """What hangs on where a node stands."""
+    above = parents.get(node)
+    if isinstance(node, ast.Call):
+        method = node.func.attr if isinstance(node.func, ast.Attribute) else None
+        if (called(node) in WALKED or method in WALKED_METHODS) and not walked_at_once(node, above):
+            return ["L23 kept"]
+        if called(node) in ("set", "frozenset") and not set_is_asked_at_once(node, parents):
+            return ["L24 set"]
+        named = {word.arg for word in node.keywords}
+        if (called(node) in OWN_NAMES or method in METHODS) and named - set(KEYWORDS.get(called(node), ())):
+            return ["L22 keyword"]
+    if isinstance(node, ast.Name) and isinstance(node.ctx, ast.Load) and node.id in classes:
+        return [] if class_stands_well(node, parents) else ["L18 " + node.id]
+    if isinstance(node, ast.Assign) and not isinstance(node.targets[0], (ast.Name, ast.Attribute, ast.Subscript)):
+        return ["L6 target"]
+    if isinstance(node, ast.ExceptHandler):
+        fine = isinstance(node.type, ast.Name) and (node.type.id in classes or node.type.id in TAKEN_AS_YOU_LIKE)
+        return [] if fine else ["L19 except"]
+    return []
+
+
+def faults_of_top(tree):
+    plain = (ast.ImportFrom, ast.FunctionDef, ast.ClassDef, ast.Assign)
+    found = ["L3 " + type(part).__name__ for part in tree.body[1:] if not isinstance(part, plain)]
+    imports = [alias.asname or alias.name for node in tree.body if isinstance(node, ast.ImportFrom) for alias in node.names]
+    tops = imports + [part.name for part in tree.body if isinstance(part, (ast.FunctionDef, ast.ClassDef))]
+    tops += [target.id for part in tree.body if isinstance(part, ast.Assign) for target in part.targets]
+    found += ["L15 twice " + name for name in set(tops) if tops.count(name) > 1]
+    shadows = set(imports) | {part.name for part in tree.body if isinstance(part, ast.ClassDef)}
+    inner = [node for part in tree.body if isinstance(part, (ast.FunctionDef, ast.ClassDef)) for node in part.body]
+    args = [node.arg for node in ast.walk(tree) if isinstance(node, ast.arg)]
+    stored = [node.id for part in inner for node in ast.walk(part)
+              if isinstance(node, ast.Name) and isinstance(node.ctx, ast.Store)]
+    return found + ["L15 " + name for name in args + stored if name in shadows]
+
+
+def faults_of_names(tree):
+    found = ["L26 " + name for name in methods_of(tree) if name in NOT_FREE and name not in METHODS_TOO + list(DUNDERS)]
+    return found + ["L26 " + name for name in values_of(tree) if name in NOT_FREE and name not in VALUES_TOO]
+
+
+def faults(text, own_methods=(), own_classes=()):
     tree = ast.parse(text)
     own = set(own_methods) | methods_of(tree) | set(DUNDERS)
-    found = faults_of_text(text)
+    classes = set(own_classes) | {node.name for node in tree.body if isinstance(node, ast.ClassDef)}
+    parents = {below: node for node in ast.walk(tree) for below in ast.iter_child_nodes(node)}
+    found = faults_of_text(text) + faults_of_top(tree) + faults_of_names(tree)
     for node in ast.walk(tree):
-        found += faults_of_node(node, own)
+        found += faults_of_node(node, own) + faults_of_place(node, parents, classes)
     for name in bound_names(tree):
         if name.startswith("_") and name not in DUNDERS:
             found.append("L12 " + name)
@@ -131,13 +219,22 @@ class Package(unittest.TestCase):
 
     def test_each_file_keeps_to_the_rules(self):
         own = set().union(*[methods_of(tree) for tree in self.trees.values()])
+        classes = {node.name for tree in self.trees.values() for node in tree.body if isinstance(node, ast.ClassDef)}
         for path in self.paths:
-            self.assertEqual(faults(path.read_text("utf-8"), own), [], path.name)
+            self.assertEqual(faults(path.read_text("utf-8"), own, classes), [], path.name)
 
     def test_no_name_is_a_method_and_a_value(self):
         methods = set().union(*[methods_of(tree) for tree in self.trees.values()])
         values = set().union(*[values_of(tree) for tree in self.trees.values()])
         self.assertEqual(methods & values, set())
+
+    def test_names_are_drawn_from_the_file_that_defines_them(self):
+        for name, tree in self.trees.items():
+            for node in ast.walk(tree):
+                if isinstance(node, ast.ImportFrom):
+                    source = self.trees[node.module.partition(".")[2]]
+                    defined = {part.name for part in source.body if isinstance(part, (ast.FunctionDef, ast.ClassDef))}
+                    self.assertLessEqual({alias.name for alias in node.names}, defined, name)
 
     def test_no_two_files_draw_from_one_another(self):
         drawn = {"leafframe." + name: set(drawn_from(tree)) for name, tree in self.trees.items()}
@@ -156,11 +253,22 @@ class Looking(unittest.TestCase):
             "_x = 1", "def f(id):\n    pass", "class A:\n    x = 1", "x = getattr(y, z)", "y.sort()", "x = 'type'",
             "x = 1\t", "x = 1  #" + "-" * 120, "def f():\n" + "    x = 1\n" * 40, "x = 1\n" * 401, "y.format()",
             "for x in y:\n    pass\nelse:\n    pass", "try:\n    x()\nfinally:\n    y()", "del x", "assert x",
+            "def f(a):\n    x, y = a", "def f(a):\n    return reversed(range(a))", "def f(a):\n    b = a.items()",
+            "def f(a):\n    return list(reversed(range(a)))", "def f(a):\n    b = set(a)", "def f(a):\n    return a.get(k=1)",
+            "class A:\n    pass\n\n\ndef f():\n    return [A]", "def f():\n    try:\n        f()\n    except Exception:\n"
+            "        pass", "'d'\nx = 1\nx = 2", "'d'\nx()", "class A:\n    def sort(self):\n        pass",
+            "class A:\n    def f(self):\n        self.values = 1", "class A:\n    pass\n\n\ndef f(A):\n    pass",
+            "from leafframe.x import y\n\n\ndef f():\n    y = 1", "def f(a):\n    for x in set(a):\n        pass",
         ):
             self.assertNotEqual(faults(text), [], text)
 
     def test_what_is_within_the_rules_passes(self):
-        for text in ("x = 1", "x = [1 << 3, (2,)]", "def f(a, b=1):\n    return a if b is None else b", "x = 2 ** 64"):
+        for text in (
+            "x = 1", "x = [1 << 3, (2,)]", "def f(a, b=1):\n    return a if b is None else b", "x = 2 ** 64",
+            "def f(a):\n    return sorted(set(a) | set(f))", "def f(a):\n    return a in set(f)",
+            "def f(a):\n    for x, y in a.items():\n        f(dict(enumerate(x)), start=y)",
+            "class A:\n    pass\n\n\ndef f(a):\n    return A() if isinstance(a, (A, int)) else sum(range(a), start=1)",
+        ):
             self.assertEqual(faults(text), [], text)
 
 

@@ -4,8 +4,10 @@ import random
 import unittest
 
 from leafframe.leaves import Held, Named
+from leafframe.looker import frame_counts, leaf_rows, looked, page_words, share_rows, slot_counts
 from leafframe.memories import Memory, live_tasks, room_left, walks_of
 from leafframe.shapes import Shape
+from leafframe.tasks import end_task
 from tests.helper import FAR_ABOVE, FAR_BELOW, NO_NAMES, Case, FlatMemory, answer_of, snapshot
 
 # widths, low, the pages that are mostly used
@@ -32,8 +34,10 @@ class Drawing:
         kinds = ["write"] * 8 + ["read"] * 6 + ["map", "share", "unmap", "rights"]
         if flat.leaf_count() < MOST_LEAVES // 2:
             kinds += ["map", "map", "share"]
-        if len(flat.tasks) < 4:
-            kinds += ["begin"] * (1 if flat.tasks else 20)
+        if len(flat.tasks) < 6 and flat.leaf_count() < MOST_LEAVES:
+            kinds += ["begin", "fork", "fork"] if flat.tasks else ["begin"] * 20
+        if len(flat.tasks) > 2 and self.chance.randrange(2):
+            kinds += ["end"]
         kind = self.chance.choice(kinds)
         return kind, getattr(self, kind)(flat)
 
@@ -45,68 +49,75 @@ class Drawing:
             return self.chance.choice((-1, 1, 2, 7, 1 << 70))
         return self.chance.choice(sorted(flat.tasks))
 
-    def stretch(self):
+    def stretch(self, pages):
         if self.odd():
             return [self.chance.choice((-1, 0, self.shape.pages() - 1, self.shape.pages()) + FAR_ABOVE + FAR_BELOW),
                     self.chance.choice((-1, 0, 1, 2, 64, 65) + FAR_ABOVE + FAR_BELOW)]
-        return [self.chance.choice(self.pages), self.chance.choice((1, 1, 1, 2, 2, 3, 4))]
+        return [self.chance.choice(pages), self.chance.choice((1, 1, 1, 2, 2, 3, 4))]
+
+    def pages_of(self, flat, task):
+        """Mostly the pages that the task has, if it has any."""
+        mapped = sorted(flat.tasks.get(task, ()))
+        return mapped if mapped and self.chance.randrange(8) else self.pages
 
     def right(self):
         return self.chance.choice((-1, 4, 5) + FAR_ABOVE) if self.odd() else self.chance.choice((0, 1, 2, 3, 3, 3, 3))
 
-    def address(self):
+    def address(self, pages):
         if self.odd():
             return self.chance.choice((-1, self.shape.pages() * self.shape.size()) + FAR_BELOW + FAR_ABOVE[2:])
-        return self.chance.choice(self.pages) * self.shape.size() + self.chance.randrange(self.shape.size())
+        return self.chance.choice(pages) * self.shape.size() + self.chance.randrange(self.shape.size())
 
     def begin(self, flat):
         return []
 
+    def fork(self, flat):
+        return [self.task(flat)]
+
+    end = fork
+
     def map(self, flat):
-        return [self.task(flat)] + self.stretch() + [self.right()]
+        return [self.task(flat)] + self.stretch(self.pages) + [self.right()]
 
     def unmap(self, flat):
-        return [self.task(flat)] + self.stretch()
+        task = self.task(flat)
+        return [task] + self.stretch(self.pages_of(flat, task))
 
-    rights = map
+    def rights(self, flat):
+        return self.unmap(flat) + [self.right()]
 
     def share(self, flat):
         name = self.chance.choice(NO_NAMES) if self.odd() else self.chance.choice(("a", "b", "abcdefgh"))
-        return [self.task(flat), name] + self.stretch() + [self.right()]
+        return [self.task(flat), name] + self.stretch(self.pages) + [self.right()]
 
     def read(self, flat):
-        return [self.task(flat), self.address()]
+        task = self.task(flat)
+        return [task, self.address(self.pages_of(flat, task))]
 
     def write(self, flat):
         word = self.chance.choice((-1, 2 ** 64)) if self.odd() else self.chance.choice((0, 1, 2 ** 64 - 1, 5, 6, 7))
-        return [self.task(flat), self.address(), word]
+        return self.read(flat) + [word]
 
 
 class WholeCase(Case):
     def tallies(self, memory, flat):
         """[6]: counts, uses and words are those of the leaves and of the flat memories."""
-        frames, slots, uses = [0] * len(memory.pool.frames()), [0] * len(memory.pool.slots()), {}
-        self.assertEqual(sorted(memory.spaces), sorted(flat.tasks))
-        leaves = [leaf for name, many, used in memory.shares.rows() for leaf in memory.shares.parts(name)]
-        for task, space in memory.spaces.items():
-            self.assertEqual([page for page, leaf in space.rows()], sorted(flat.tasks[task]))
-            leaves += [leaf for page, leaf in space.rows()]
-            for page, leaf in space.rows():
-                self.assertEqual(leaf.rights, flat.tasks[task][page][0])
-                self.assertEqual(self.words(memory, leaf), flat.tasks[task][page][1][0])
-        for row in [leaf.row() for leaf in leaves]:
-            if row[0] == "held":
-                frames[row[2]] += 1
-            elif row[0] == "out":
-                slots[row[2]] += 1
-            elif row[0] == "named":
-                uses[row[2]] = uses.get(row[2], 0) + 1
-        self.assertEqual((memory.pool.frames(), memory.pool.slots()), (frames, slots))
-        self.assertEqual({name: used for name, many, used in memory.shares.rows()}, uses)
+        self.assertEqual(looked(memory), [])
+        self.assertEqual(live_tasks(memory), sorted(flat.tasks))
+        rows = leaf_rows(memory)
+        self.assertEqual([row[1:3] for row in rows if row[0] == "task"],
+                         [(task, page) for task in sorted(flat.tasks) for page in sorted(flat.tasks[task])])
+        for kind, task, page, row in rows:
+            if kind == "task":
+                self.assertEqual(row[1], flat.tasks[task][page][0])
+                self.assertEqual(page_words(memory, task, page), flat.tasks[task][page][1][0])
+        for kind, counts in (("held", frame_counts(memory)), ("out", slot_counts(memory))):
+            named = [row[3][2] for row in rows if row[3][0] == kind]
+            self.assertEqual(counts, [named.count(number) for number in range(len(counts))])
+        named = [row[3][2] for row in rows if row[3][0] == "named"]
+        self.assertEqual(share_rows(memory), [(name, len(flat.shares[name]["rows"]), named.count(name))
+                                              for name in sorted(flat.shares)])
         self.assertEqual(room_left(memory), flat.room - flat.contents)
-
-    def words(self, memory, leaf):
-        return memory.pool.words(memory.shares.leaf(leaf.name, leaf.part) if isinstance(leaf, Named) else leaf)
 
     def near_is_so(self, memory):
         """[25]: each row of the near-table tells what it would be told now."""
@@ -146,6 +157,16 @@ class AgainstFlatMemories(WholeCase):
             last = (deed, handed)
             self.tallies(memory, flat)
             self.near_is_so(memory)
+        self.all_ended(memory, drawing.chance)
+
+    def all_ended(self, memory, chance):
+        tasks = live_tasks(memory)
+        chance.shuffle(tasks)
+        for task in tasks:
+            end_task(memory, task)
+            self.assertEqual(looked(memory), [])
+        self.assertEqual((leaf_rows(memory), share_rows(memory), memory.near.rows()), ([], [], []))
+        self.assertEqual(set(frame_counts(memory) + slot_counts(memory)), {0})
 
     def walked(self, near, walks, deed, handed, last, shape):
         if deed not in ("read", "write"):
